@@ -1,0 +1,70 @@
+package documents
+
+import (
+	"strings"
+
+	"warrant/api"
+	"warrant/lists"
+	"warrant/texts"
+)
+
+const maxDigits = 18
+
+// operation is what a condition may ask.
+type operation struct {
+	name string
+	// look takes what the member value says (nil, if it is missing).
+	look func(texts.Value) ([]string, error)
+}
+
+var operations = [...]operation{
+	{name: "like", look: likeValues},
+	{name: "same", look: sameValues},
+	{name: "below", look: belowValues},
+	{name: "under", look: underValues},
+	{name: "absent", look: absentValues},
+}
+
+func readOperation(v texts.Value) (operation, error) {
+	name, ok := v.(texts.String)
+	for _, op := range operations {
+		if ok && op.name == string(name) {
+			return op, nil
+		}
+	}
+	return operation{}, ShapeFault{"op"}
+}
+
+func likeValues(v texts.Value) ([]string, error) { return oneOrList(v, readPattern) }
+
+func sameValues(v texts.Value) ([]string, error) { return stringsThat(v, isShort) }
+
+func belowValues(v texts.Value) ([]string, error) { return stringsThat(v, isWholeNumber) }
+
+func underValues(v texts.Value) ([]string, error) { return stringsThat(v, isShortAndFilled) }
+
+func absentValues(v texts.Value) ([]string, error) {
+	if v != nil {
+		return nil, ShapeFault{"value"}
+	}
+	return nil, nil
+}
+
+// stringsThat reads one string or a list of them, each as it must be.
+func stringsThat(v texts.Value, isRight func(string) bool) ([]string, error) {
+	return oneOrList(v, func(one texts.Value) (string, error) { return readString(one, isRight) })
+}
+
+func isShort(s string) bool { return len(s) <= api.MaxPattern }
+
+func isShortAndFilled(s string) bool { return s != "" && isShort(s) }
+
+func isWholeNumber(s string) bool {
+	digits := strings.TrimPrefix(s, "-")
+	if s == "0" {
+		return true
+	}
+	return 0 < len(digits) && len(digits) <= maxDigits && digits[0] != '0' && lists.All([]byte(digits), isDigit)
+}
+
+func isDigit(b byte) bool { return '0' <= b && b <= '9' }
