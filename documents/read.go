@@ -78,7 +78,8 @@ func readPattern(v texts.Value) (string, error) {
 	if !ok {
 		return "", ShapeFault{"pattern"}
 	}
-	return string(s), patterns.Check(string(s))
+	_, err := patterns.Read(string(s))
+	return string(s), err
 }
 
 // oneOrList reads a single value, or each of a list of 1 to MaxPatterns.

@@ -14,8 +14,8 @@ func TestRightPatterns(t *testing.T) {
 		"${abcdefghijkl}", "${a}${b}", "\n\x00\"\\", "\uFFFD",
 		strings.Repeat("a", api.MaxPattern), strings.Repeat("é", api.MaxPattern/2), strings.Repeat("$$", api.MaxPattern/2),
 	} {
-		if err := Check(p); err != nil {
-			t.Errorf("Check(%q) = %v", p, err)
+		if _, err := Read(p); err != nil {
+			t.Errorf("Read(%q) = %v", p, err)
 		}
 	}
 }
@@ -32,8 +32,8 @@ func TestWrongPatterns(t *testing.T) {
 		{strings.Repeat("a", api.MaxPattern+1), api.MaxPattern}, {strings.Repeat("é", api.MaxPattern/2) + "a", api.MaxPattern},
 	} {
 		var fault Fault
-		if err := Check(c.pattern); !errors.As(err, &fault) || fault.Place != c.place {
-			t.Errorf("Check(%q) = %v, want place %d", c.pattern, err, c.place)
+		if p, err := Read(c.pattern); p != nil || !errors.As(err, &fault) || fault.Place != c.place {
+			t.Errorf("Read(%q) = %v, want place %d", c.pattern, err, c.place)
 		}
 	}
 }

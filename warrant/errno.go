@@ -9,7 +9,7 @@ import (
 	"warrant/texts"
 )
 
-// errnoOf tells what kept a text from being a document, and its place or the statement's number.
+// errnoOf tells what kept a text from being a document or a pattern, and its place or the statement's number.
 func errnoOf(err error) (api.Errno, int) {
 	var syntax texts.SyntaxFault
 	var deep texts.DeepFault

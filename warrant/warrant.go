@@ -4,6 +4,8 @@ package warrant
 import (
 	"warrant/api"
 	"warrant/documents"
+	"warrant/patterns"
+	"warrant/requests"
 )
 
 // Office keeps documents, and decides.
@@ -26,7 +28,18 @@ func Print(text string) (string, api.Errno) {
 }
 
 // Matches tells whether a pattern matches a word, for a request (P7).
-func Matches(pattern string, word string, r api.Request) (bool, api.Errno) { return false, api.OK }
+func Matches(pattern string, word string, r api.Request) (bool, api.Errno) {
+	p, err := patterns.Read(pattern)
+	if err != nil {
+		errno, _ := errnoOf(err)
+		return false, errno
+	}
+	if !requests.MayBe(r) || !requests.IsWord(word) {
+		return false, api.ErrRequest
+	}
+	says := func(name string) (string, bool) { return requests.Says(r, name) }
+	return p.Matches(word, says), api.OK
+}
 
 // New gives an office without documents (P8).
 func New() *Office { return nil }
