@@ -42,3 +42,16 @@ func shapeErrnoOf(err error) (api.Errno, int) {
 	}
 	return api.ErrShape, number
 }
+
+// placeErrno tells what keeps a layer and a name from being a place where a document can lie.
+func placeErrno(layer int, name string) api.Errno {
+	switch {
+	case !isLayer(layer):
+		return api.ErrLayer
+	case !patterns.IsName(name):
+		return api.ErrName
+	}
+	return api.OK
+}
+
+func isLayer(layer int) bool { return 0 <= layer && layer < api.Layers }
