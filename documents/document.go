@@ -1,5 +1,11 @@
-// Package documents makes documents of texts, and tells what is wrong where a text is none.
+// Package documents makes documents of texts, tells what is wrong where a text is none, and which statements apply to a request.
 package documents
+
+// The effects of statements.
+const (
+	Allow = "allow"
+	Deny  = "deny"
+)
 
 // Document is what a text says that is a document.
 type Document struct {

@@ -15,24 +15,36 @@ type operation struct {
 	name string
 	// look takes what the member value says (nil, if it is missing).
 	look func(texts.Value) ([]string, error)
+	// test holds what the key says against values that look took.
+	test func(x answer, values []string) bool
 }
 
+// operations: no function in it may ask for an operation, or the table would be needed to make itself.
 var operations = [...]operation{
-	{name: "like", look: likeValues},
-	{name: "same", look: sameValues},
-	{name: "below", look: belowValues},
-	{name: "under", look: underValues},
-	{name: "absent", look: absentValues},
+	{name: "like", look: likeValues, test: isLike},
+	{name: "same", look: sameValues, test: isSame},
+	{name: "below", look: belowValues, test: isBelow},
+	{name: "under", look: underValues, test: isUnder},
+	{name: "absent", look: absentValues, test: isAbsent},
+}
+
+// operationNamed gives the operation of that name, if there is one.
+func operationNamed(name string) (operation, bool) {
+	for _, op := range operations {
+		if op.name == name {
+			return op, true
+		}
+	}
+	return operation{}, false
 }
 
 func readOperation(v texts.Value) (operation, error) {
-	name, ok := v.(texts.String)
-	for _, op := range operations {
-		if ok && op.name == string(name) {
-			return op, nil
-		}
+	name, isString := v.(texts.String)
+	op, found := operationNamed(string(name))
+	if !isString || !found {
+		return operation{}, ShapeFault{"op"}
 	}
-	return operation{}, ShapeFault{"op"}
+	return op, nil
 }
 
 func likeValues(v texts.Value) ([]string, error) { return oneOrList(v, readPattern) }

@@ -58,7 +58,7 @@ func readString(v texts.Value, isRight func(string) bool) (string, error) {
 	return string(s), nil
 }
 
-func isEffect(s string) bool { return s == "allow" || s == "deny" }
+func isEffect(s string) bool { return s == Allow || s == Deny }
 
 func readChoice(v texts.Value) (Choice, error) {
 	if _, ok := v.(texts.Object); !ok {

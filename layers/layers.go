@@ -1,4 +1,4 @@
-// Package layers: the documents of a layer, under their names.
+// Package layers: the documents of a layer, under their names, and the first statement in there that allows or denies.
 package layers
 
 import (
@@ -55,6 +55,16 @@ func (l Layer) Without(name string) (Layer, bool) {
 		return nil, false
 	}
 	return slices.Concat(l[:at], l[at+1:]), true
+}
+
+// First tells the first statement of that effect that applies to a request, by its document's name and its number in there, and whether there is any.
+func (l Layer) First(effect string, r api.Request) (string, int, bool) {
+	for _, kept := range l {
+		if number, found := kept.Document.First(effect, r); found {
+			return kept.Name, number, true
+		}
+	}
+	return "", 0, false
 }
 
 // Names gives the names of the documents, in their order.

@@ -116,3 +116,39 @@ func TestChangesMakeAnother(t *testing.T) {
 	wantDocument(t, first, "b", 1)
 	wantDocument(t, third, "b", 7)
 }
+
+// ruling is a document of statements about everything, with these effects.
+func ruling(effects ...string) documents.Document {
+	all := documents.Choice{Patterns: []string{"*"}}
+	var d documents.Document
+	for _, effect := range effects {
+		d.Statements = append(d.Statements, documents.Statement{Effect: effect, Who: all, Do: all, On: all})
+	}
+	return d
+}
+
+func wantFirst(t *testing.T, l Layer, effect, name string, number int) {
+	t.Helper()
+	gotName, gotNumber, found := l.First(effect, api.Request{})
+	if gotName != name || gotNumber != number || found != (number > 0) {
+		t.Errorf("First(%q) of %q = %q, %d, %v, want %q, %d", effect, l.Names(), gotName, gotNumber, found, name, number)
+	}
+}
+
+func TestFirst(t *testing.T) {
+	var l Layer
+	wantFirst(t, l, documents.Allow, "", 0)
+	wantFirst(t, l, documents.Deny, "", 0)
+	l, _ = l.With("c", ruling("allow", "deny", "deny"))
+	wantFirst(t, l, documents.Allow, "c", 1)
+	wantFirst(t, l, documents.Deny, "c", 2)
+	l, _ = l.With("b", ruling("allow", "allow"))
+	wantFirst(t, l, documents.Allow, "b", 1)
+	wantFirst(t, l, documents.Deny, "c", 2)
+	l, _ = l.With("a", ruling("deny"))
+	wantFirst(t, l, documents.Allow, "b", 1)
+	wantFirst(t, l, documents.Deny, "a", 1)
+	l, _ = l.Without("c")
+	l, _ = l.Without("a")
+	wantFirst(t, l, documents.Deny, "", 0)
+}

@@ -1,6 +1,8 @@
 // Package lists: what is asked of a list whatever it is made of.
 package lists
 
+import "cmp"
+
 // First tells the place of the first one that the test takes, and whether there is any.
 func First[T any](list []T, test func(T) bool) (int, bool) {
 	for at, one := range list {
@@ -25,6 +27,11 @@ func All[T any](list []T, test func(T) bool) bool {
 // Has tells whether one of the list is the same as this one.
 func Has[T comparable](list []T, this T) bool {
 	return Any(list, func(one T) bool { return one == this })
+}
+
+// HasAbove tells whether one of the list is greater than this one.
+func HasAbove[T cmp.Ordered](list []T, this T) bool {
+	return Any(list, func(one T) bool { return one > this })
 }
 
 // Map turns each of the list into another.

@@ -40,6 +40,21 @@ func TestHas(t *testing.T) {
 	}
 }
 
+func TestHasAbove(t *testing.T) {
+	for _, c := range []struct {
+		list []int
+		this int
+		want bool
+	}{{nil, 0, false}, {[]int{0}, 0, false}, {[]int{1}, 0, true}, {[]int{-5, 18}, 17, true}, {[]int{18, -5}, 17, true}, {[]int{18, -5}, 18, false}, {[]int{-5, -7}, -6, true}, {[]int{-5, -7}, -5, false}} {
+		if got := HasAbove(c.list, c.this); got != c.want {
+			t.Errorf("HasAbove(%v, %d) = %v", c.list, c.this, got)
+		}
+	}
+	if !HasAbove([]string{"a", "c"}, "b") || HasAbove([]string{"a", "b"}, "b") {
+		t.Error("HasAbove orders texts otherwise")
+	}
+}
+
 func TestMap(t *testing.T) {
 	if got := Map([]int{3, 1, 2}, strconv.Itoa); !slices.Equal(got, []string{"3", "1", "2"}) {
 		t.Errorf("Map = %v", got)

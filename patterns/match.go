@@ -2,14 +2,23 @@ package patterns
 
 import "warrant/lists"
 
-// Matches tells whether the pattern matches a word; says tells what a name says, and whether it says anything. Both the word and what is said must be UTF-8.
-func (p Pattern) Matches(word string, says func(name string) (string, bool)) bool {
+// Says tells what a name says, and whether it says anything.
+type Says func(name string) (string, bool)
+
+// Match tells whether a text is a pattern that matches a word.
+func Match(text, word string, says Says) bool {
+	p, err := Read(text)
+	return err == nil && p.Matches(word, says)
+}
+
+// Matches tells whether the pattern matches a word. Both the word and what is said must be UTF-8.
+func (p Pattern) Matches(word string, says Says) bool {
 	signs, ok := p.signs(says)
 	return ok && match(signs, []rune(word))
 }
 
 // signs puts what the names say in place of the variables: a star in there stands for itself. It answers false if a name says nothing.
-func (p Pattern) signs(says func(name string) (string, bool)) ([]rune, bool) {
+func (p Pattern) signs(says Says) ([]rune, bool) {
 	var out []rune
 	for _, next := range p {
 		if next.name == "" {

@@ -174,3 +174,17 @@ func TestManyStarsEndSoon(t *testing.T) {
 		}
 	}
 }
+
+func TestMatchTakesPatternsAlone(t *testing.T) {
+	for _, c := range []struct {
+		text, word string
+		want       bool
+	}{
+		{"a*", "ab", true}, {"a*", "b", false}, {"", "", true}, {"", "a", false}, {"${v}", "*", true}, {"${v}", "a", false}, {"${x}", "", false},
+		{"$", "$", false}, {"$", "", false}, {"${", "${", false}, {"\xff", "\xff", false}, {strings.Repeat("*", api.MaxPattern+1), "", false},
+	} {
+		if got := Match(c.text, c.word, saying("v", "*")); got != c.want {
+			t.Errorf("Match(%q, %q) = %v", c.text, c.word, got)
+		}
+	}
+}

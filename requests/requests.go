@@ -27,6 +27,11 @@ func isMark(m api.Mark) bool {
 	return patterns.IsName(m.Name) && IsWord(m.Value)
 }
 
+// Saying asks one and the same request what names say.
+func Saying(r api.Request) patterns.Says {
+	return func(name string) (string, bool) { return Says(r, name) }
+}
+
 // Says tells what a name says in a request, and whether it says anything.
 func Says(r api.Request, name string) (string, bool) {
 	switch name {

@@ -83,3 +83,17 @@ func TestSays(t *testing.T) {
 		}
 	}
 }
+
+func TestSaying(t *testing.T) {
+	a := Saying(api.Request{Who: "ann", Marks: []api.Mark{{Name: "m", Value: "1"}, {Name: "m", Value: "2"}}})
+	b := Saying(api.Request{Who: "bob"})
+	for _, c := range []struct {
+		says       func(string) (string, bool)
+		name, want string
+		found      bool
+	}{{a, "who", "ann", true}, {a, "on", "", true}, {a, "m", "1", true}, {a, "n", "", false}, {b, "who", "bob", true}, {b, "m", "", false}} {
+		if got, found := c.says(c.name); got != c.want || found != c.found {
+			t.Errorf("%q says %q, %v, want %q, %v", c.name, got, found, c.want, c.found)
+		}
+	}
+}

@@ -40,8 +40,7 @@ func Matches(pattern string, word string, r api.Request) (bool, api.Errno) {
 	if !requests.MayBe(r) || !requests.IsWord(word) {
 		return false, api.ErrRequest
 	}
-	says := func(name string) (string, bool) { return requests.Says(r, name) }
-	return p.Matches(word, says), api.OK
+	return p.Matches(word, requests.Saying(r)), api.OK
 }
 
 // New gives an office without documents (P8).
@@ -98,4 +97,9 @@ func (o *Office) Names(layer int) ([]string, api.Errno) {
 }
 
 // Decide decides a request (P11, P12).
-func (o *Office) Decide(r api.Request) (api.Decision, api.Errno) { return api.Decision{}, api.OK }
+func (o *Office) Decide(r api.Request) (api.Decision, api.Errno) {
+	if !requests.MayBe(r) {
+		return api.Decision{}, api.ErrRequest
+	}
+	return o.decide(r), api.OK
+}
