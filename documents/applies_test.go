@@ -1,6 +1,8 @@
 package documents
 
 import (
+	"strconv"
+	"strings"
 	"testing"
 
 	"warrant/api"
@@ -82,10 +84,19 @@ func TestTakes(t *testing.T) {
 	}
 }
 
+// Texts of each count of digits, at its ends and between them, are read as the library reads them.
 func TestNumbers(t *testing.T) {
-	for text, want := range map[string]int64{"0": 0, "7": 7, "-7": -7, "999999999999999999": 999999999999999999, "-999999999999999999": -999999999999999999} {
-		if got := number(text); got != want {
-			t.Errorf("number(%q) = %d", text, got)
+	whole := []string{"0"}
+	for count := 1; count <= maxDigits; count++ {
+		least, greatest := "1"+strings.Repeat("0", count-1), strings.Repeat("9", count)
+		for _, digits := range []string{least, greatest, "123456789012345678"[:count], "987654321098765432"[:count]} {
+			whole = append(whole, digits, "-"+digits)
+		}
+	}
+	for _, text := range whole {
+		want, err := strconv.ParseInt(text, 10, 64)
+		if got := number(text); err != nil || got != want || !isWholeNumber(text) {
+			t.Errorf("number(%q) = %d, want %d (%v)", text, got, want, err)
 		}
 	}
 }

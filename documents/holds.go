@@ -1,7 +1,6 @@
 package documents
 
 import (
-	"strconv"
 	"strings"
 
 	"warrant/lists"
@@ -40,8 +39,15 @@ func isUnder(x answer, values []string) bool {
 
 func isAbsent(x answer, _ []string) bool { return !x.there }
 
-// number can't fail for a whole number: it has no more digits than an int64 has room for.
+// number can't overflow for a whole number: it has no more digits than an int64 has room for. It adds up the digits itself: strconv's readers come to that package's errors, which the table of operations must not lean on.
 func number(whole string) int64 {
-	n, _ := strconv.ParseInt(whole, 10, 64)
+	digits, isNegative := strings.CutPrefix(whole, "-")
+	var n int64
+	for _, digit := range []byte(digits) {
+		n = 10*n + int64(digit-'0')
+	}
+	if isNegative {
+		return -n
+	}
 	return n
 }

@@ -19,7 +19,7 @@ type operation struct {
 	test func(x answer, values []string) bool
 }
 
-// operations: no function in it may ask for an operation, or the table would be needed to make itself.
+// operations: no function in it may ask for an operation, or the table would be needed to make itself; nor may one come to strconv's package-level errors, which a starting value must not lean on.
 var operations = [...]operation{
 	{name: "like", look: likeValues, test: isLike},
 	{name: "same", look: sameValues, test: isSame},

@@ -404,6 +404,24 @@ func TestP11Conditions(t *testing.T) {
 	}
 }
 
+// rising is whole numbers of 1 and of 18 digits, the least and the greatest among them, from the least on.
+var rising = []string{
+	"-999999999999999999", "-999999999999999998", "-987654321098765432", "-900000000000000000", "-123456789012345679", "-123456789012345678", "-100000000000000001", "-100000000000000000",
+	"-9", "-8", "-7", "-6", "-5", "-4", "-3", "-2", "-1", "0", "1", "2", "3", "4", "5", "6", "7", "8", "9",
+	"100000000000000000", "100000000000000001", "123456789012345678", "123456789012345679", "900000000000000000", "987654321098765432", "999999999999999998", "999999999999999999",
+}
+
+func TestP11BelowBesideOneAnother(t *testing.T) {
+	for a, first := range rising {
+		for b, second := range rising {
+			wantCondition(t, `"op":"below","value":"`+second+`"`, first, a < b)
+			wantCondition(t, `"op":"below","value":["`+first+`","`+second+`"]`, first, a < b)
+			wantCondition(t, `"op":"below","value":["`+first+`","`+second+`"]`, second, b < a)
+			wantCondition(t, `"op":"below","value":["`+first+`","`+second+`"]`, "0", slices.Max([]int{a, b}) > slices.Index(rising, "0"))
+		}
+	}
+}
+
 // who, do and on are keys that always say something.
 func TestP11ConditionsOnWhoDoAndOn(t *testing.T) {
 	for _, key := range []string{"who", "do", "on"} {
